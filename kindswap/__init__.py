@@ -1,1 +1,1 @@
-"""Kindswap: kinds made of pairs and functions, and which of them are alike."""
+"""Kindswap: kinds made of pairs and functions, which of them are alike, their worths, and terms."""

@@ -1,6 +1,7 @@
 """Things that several tests hand in."""
 
 import itertools
+import unittest
 
 
 def base(n):
@@ -17,6 +18,15 @@ def func(one, other):
 
 UNIT = ("unit",)
 A, B, C, D, E, F, G, H = [base(n) for n in range(8)]
+
+
+class Refusals(unittest.TestCase):
+    """What tests of refusals have in common."""
+
+    def assert_refused(self, refusal, function, *things):
+        with self.assertRaises(refusal) as caught:
+            function(*things)
+        self.assertIs(type(caught.exception), refusal)
 
 
 class Loud:
@@ -69,6 +79,46 @@ TUPLES_NO_KIND = [
 ]
 
 NO_KINDS = STRAYS + TUPLES_NO_KIND + ["", "a", "1", "(a*b)", "base", "unit", [], [((), 0)]]
+
+
+# Each row: texts of kinds that are alike, and to none of the other rows.
+ALIKE_ROWS = [
+    ["1", "(1*1)", "(a>1)", "(1>1)", "((a>b)>(1*(b>1)))"],
+    ["a", "(a*1)", "(1*a)", "(1>a)", "((1*1)*(1>(a*(b>1))))", "((b>1)>a)"],
+    ["b", "(b*1)", "(1>(1>b))"],
+    ["(a*b)", "(b*a)", "((1>b)*a)", "(1>(b*a))"],
+    ["(a*a)", "((a*1)*a)"],
+    ["(a*(b*c))", "((a*b)*c)", "((c*a)*b)", "(c*(b*a))"],
+    ["(a>b)", "(a>(1>b))", "(1>(a>b))", "((a*1)>b)", "((1>a)>(b*1))"],
+    ["(b>a)"],
+    ["((a*b)>c)", "((b*a)>c)", "(a>(b>c))", "(b>(a>c))"],
+    ["((a*a)>c)", "(a>(a>c))"],
+    ["((a>b)>c)", "((1>(a>b))>c)"],
+    ["(a>(b*c))", "(a>(c*b))", "((a>b)*(a>c))", "((a>c)*(a>b))"],
+    ["((a>b)*c)", "(c*(a>b))"],
+    ["(a>((b*c)*(a>b)))", "(((a*a)>b)*((a>c)*(a>b)))", "((a>(a>b))*(a>(b*c)))"],
+    ["((a>(b*c))>d)", "(((a>b)*(a>c))>d)", "((a>c)>((a>b)>d))"],
+    ["(((a*b)>c)>d)", "((b>(a>c))>d)"],
+    ["(a*(b*(c*d)))", "((d*c)*(b*a))", "((a*d)*(c*b))"],
+]
+
+# None of these are sizes.
+NO_SIZES = STRAYS + TUPLES_NO_KIND + [A, UNIT, both(A, B), "", "12345678", b"12345678", []] + [
+    [1] * 7, [1] * 9, [1] * 16, [999] * 7, [2, 3, 1, 4, 1, 1, 5, 2, 1], tuple([1] * 8),
+    tuple([2, 3, 1, 4, 1, 1, 5, 2]), {n: 1 for n in range(8)}, range(1, 9), iter([1] * 8), [[1] * 8],
+    [[1]] * 8, [A] * 8, [Loud()] * 8, [Yes()] * 8, ["1"] * 8, ["2", "3", "1", "4", "1", "1", "5", "2"],
+] + [
+    [1] * at + [wrong] + [1] * (7 - at)
+    for at in (0, 3, 7)
+    for wrong in (0, -1, 1000, 1001, 10 ** 59, -10 ** 59, True, False, None, "1", "", b"1", 1.0, 2.5,
+                  (), (1,), [1], [], {}, {1}, Loud(), Yes(), object(), int)
+]
+
+# None of these is a divisor.
+NO_DIVISORS = [thing for thing in STRAYS if type(thing) is not int] + TUPLES_NO_KIND + [
+    1, 0, -1, -2, -7, -10 ** 9, 10 ** 9 + 1, 10 ** 9 + 7, 10 ** 18, 10 ** 59, "", "7", "2", [], [2], [7],
+    (), (7,), 2.0, 7.0, {7}, {7: 7}, A, UNIT,
+]
 
 
 def hidden_in_kinds(thing):

@@ -9,8 +9,9 @@ from kindswap import forms
 from kindswap.errors import NoForm, NoKind
 from kindswap.forms import alike, form, kind_of
 from kindswap.kinds import is_kind, kind_text, read_kind
-from samples import (A, B, C, D, NO_KINDS, STRAYS, UNIT, Loud, Yes, both, branching, deep_kinds,
+from samples import (A, ALIKE_ROWS, B, C, D, STRAYS, UNIT, Loud, Yes, both, branching, deep_kinds,
                      func, no_kinds_at_any_depth, small_kinds, wide_kinds)
+from slow import count
 
 
 def plain(*numbers):
@@ -120,24 +121,6 @@ def _chain(depth):
     for _ in range(depth - 1):
         factor = ((factor,), 1)
     return factor
-
-
-def count(kind, sizes, most=10 ** 400):
-    """How many worths the kind has, reckoned on another way than by forms; None for too many."""
-    if kind[0] == "base":
-        return sizes[kind[1]]
-    if kind[0] == "unit":
-        return 1
-    one, other = count(kind[1], sizes, most), count(kind[2], sizes, most)
-    if one is None and other == 1 and kind[0] == "from":
-        return 1
-    if one is None or other is None:
-        return None
-    if kind[0] == "both":
-        return one * other
-    if other == 1:
-        return 1
-    return None if one > 1500 or other ** one > most else other ** one
 
 
 class TestInterface(unittest.TestCase):
@@ -272,30 +255,9 @@ class TestKindOf(unittest.TestCase):
 
 
 class TestAlike(unittest.TestCase):
-    # Each row: texts of kinds that are alike, and to none of the other rows.
-    ROWS = [
-        ["1", "(1*1)", "(a>1)", "(1>1)", "((a>b)>(1*(b>1)))"],
-        ["a", "(a*1)", "(1*a)", "(1>a)", "((1*1)*(1>(a*(b>1))))", "((b>1)>a)"],
-        ["b", "(b*1)", "(1>(1>b))"],
-        ["(a*b)", "(b*a)", "((1>b)*a)", "(1>(b*a))"],
-        ["(a*a)", "((a*1)*a)"],
-        ["(a*(b*c))", "((a*b)*c)", "((c*a)*b)", "(c*(b*a))"],
-        ["(a>b)", "(a>(1>b))", "(1>(a>b))", "((a*1)>b)", "((1>a)>(b*1))"],
-        ["(b>a)"],
-        ["((a*b)>c)", "((b*a)>c)", "(a>(b>c))", "(b>(a>c))"],
-        ["((a*a)>c)", "(a>(a>c))"],
-        ["((a>b)>c)", "((1>(a>b))>c)"],
-        ["(a>(b*c))", "(a>(c*b))", "((a>b)*(a>c))", "((a>c)*(a>b))"],
-        ["((a>b)*c)", "(c*(a>b))"],
-        ["(a>((b*c)*(a>b)))", "(((a*a)>b)*((a>c)*(a>b)))", "((a>(a>b))*(a>(b*c)))"],
-        ["((a>(b*c))>d)", "(((a>b)*(a>c))>d)", "((a>c)>((a>b)>d))"],
-        ["(((a*b)>c)>d)", "((b>(a>c))>d)"],
-        ["(a*(b*(c*d)))", "((d*c)*(b*a))", "((a*d)*(c*b))"],
-    ]
-
     def test_alike_ones_and_unlike_ones_either_way_round(self):
-        for at, row in enumerate(self.ROWS):
-            for other_at, other_row in enumerate(self.ROWS):
+        for at, row in enumerate(ALIKE_ROWS):
+            for other_at, other_row in enumerate(ALIKE_ROWS):
                 for one in row:
                     for other in other_row:
                         with self.subTest(one=one, other=other):

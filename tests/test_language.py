@@ -30,6 +30,9 @@ INTERFACE = {
                "NoWorth", "NoTerm", "Unlike", "NoLibrary", "NoName"],
     "kinds": ["is_kind", "kind_text", "read_kind"],
     "forms": ["form", "kind_of", "alike"],
+    "counts": ["many", "rest", "apart", "apart_fault"],
+    "worths": ["worths", "is_worth"],
+    "terms": ["term_kind", "done"],
 }
 
 
@@ -96,6 +99,11 @@ class TestLanguage(unittest.TestCase):
                             self.assertNotIn("%", node.value)
 
     def test_l8_l25_builtins_and_methods(self):
+        methods = set(METHODS)
+        for path in FILES:
+            for node in ast.walk(ast.parse(path.read_text(encoding="utf-8"))):
+                if isinstance(node, ast.ClassDef):
+                    methods |= {one.name for one in node.body if isinstance(one, ast.FunctionDef)}
         for path in FILES:
             tree = ast.parse(path.read_text(encoding="utf-8"))
             bound = bound_names(tree)
@@ -104,8 +112,25 @@ class TestLanguage(unittest.TestCase):
                     if isinstance(node, ast.Name):
                         self.assertIn(node.id, bound | BUILTINS)
                     if isinstance(node, ast.Call) and isinstance(node.func, ast.Attribute):
-                        self.assertIn(node.func.attr, METHODS)
+                        self.assertIn(node.func.attr, methods)
             self.assertFalse(bound & BUILTINS)
+
+    def test_l15_l18_l26_no_name_means_two_things(self):
+        for path in FILES:
+            tree = ast.parse(path.read_text(encoding="utf-8"))
+            taken = {node.name for node in tree.body if isinstance(node, ast.ClassDef)}
+            for node in tree.body:
+                if isinstance(node, ast.ImportFrom):
+                    taken |= {alias.name for alias in node.names}
+            for node in ast.walk(tree):
+                if isinstance(node, ast.FunctionDef):
+                    self.assertFalse(bound_names(node) & taken, (path.name, node.name))
+                if isinstance(node, ast.ClassDef):
+                    own = {one.name for one in node.body if isinstance(one, ast.FunctionDef)}
+                    kept = {one.attr for one in ast.walk(node) if isinstance(one, ast.Attribute)
+                            and isinstance(one.ctx, ast.Store)}
+                    self.assertFalse(own & kept)
+                    self.assertFalse((own | kept) & (METHODS - {"__init__"}))
 
 
 def defined_names(path):
