@@ -1,1 +1,1 @@
-"""Kindswap: kinds made of pairs and functions, which of them are alike, their worths, and terms."""
+"""Kindswap: kinds of pairs and functions told alike, with turners, and libraries looked through."""

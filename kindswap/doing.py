@@ -1,6 +1,7 @@
 """What terms do to worths."""
 
 from kindswap.sized import all_worths, place_of
+from kindswap.steps import Steps
 
 
 class Made:
@@ -48,18 +49,15 @@ def key_of(values):
     return tuple(found)
 
 
-class Doing:
-    """Steps instead of recursion: functions handed to one another may go far deeper than terms.
+class Doing(Steps):
+    """Does terms to worths.
 
     What a function gave is kept, and a function that is made twice of the same things is one:
     else to do a thing twice, and that twice, and so on, would take powers of two of steps.
     """
 
     def __init__(self):
-        # Steps to be done, the next one last: methods, each with what is passed to it.
-        self.left = []
-        # What steps found, for later ones to use.
-        self.found = []
+        Steps.__init__(self)
         # The functions by the keys of what they are made of.
         self.made = {}
         # By each kind that is taken its worths as values.
@@ -69,10 +67,7 @@ class Doing:
         """The worth that a function gives for the worth, takes and gives being sized kinds."""
         self.left = [(self._tell, (gives,)), (self._join, ("do",)), (self._reckon, (part, {})),
                      (self._put, (value_of(takes, worth),))]
-        while self.left:
-            step, things = self.left.pop()
-            step(*things)
-        return self.found.pop()
+        return self.run()
 
     def _put(self, value):
         """Find what is there already."""
@@ -172,9 +167,7 @@ class Doing:
 
     def _gather(self, number):
         """Find one tuple of so many things that are found."""
-        row = tuple(self.found[-number:])
-        del self.found[-number:]
-        self.found.append(row)
+        self.found.append(tuple(self.take_found(number)))
 
     def _keep_worth(self, made):
         """Keep the worth that the function is."""

@@ -22,6 +22,26 @@ class Part:
 
 def read_term(thing, given):
     """The term that the thing, which may be anything, is by the kinds given."""
+    # What is to be a term, each thing with the kinds given to it and ahead of what it is made of.
+    rows = []
+    left = [(thing, given)]
+    while left:
+        piece, kinds = left.pop()
+        pieces = _pieces(piece)
+        rows.append((piece, kinds, len(pieces)))
+        inner = kinds + [piece[1]] if piece[0] == "make" else kinds
+        left.extend([(part, inner) for part in pieces])
+    # From the last one on, the parts of each are those made just before it.
+    made = []
+    for piece, kinds, many in reversed(rows):
+        at = len(made) - many
+        part = _part(piece, kinds, made[at:])
+        made[at:] = [part]
+    return made[0]
+
+
+def _pieces(thing):
+    """What must be terms for the thing, which may be anything, to be one."""
     if type(thing) is not tuple or len(thing) == 0:
         raise NoTerm("this is not a term")
     word = thing[0]
@@ -29,13 +49,24 @@ def read_term(thing, given):
     if type(word) is not str or word not in LENGTHS or len(thing) != LENGTHS[word]:
         raise NoTerm("this is not a term")
     if word == "given":
-        return _given_part(thing[1], given)
+        return ()
     if word == "make":
-        return _function_part(thing[1], thing[2], given)
-    parts = []
-    for piece in thing[1:]:
-        parts.append(read_term(piece, given))
+        if not is_kind(thing[1]):
+            raise NoTerm("a function takes what is not a kind")
+        return thing[2:]
+    return thing[1:]
+
+
+def _part(thing, given, parts):
+    """The term that the thing is by the kinds given, of these parts."""
+    word = thing[0]
+    if word == "given":
+        return _given_part(thing[1], given)
     needs = sorted({number for part in parts for number in part.needs})
+    if word == "make":
+        number = len(given)
+        outer = [need for need in needs if need != number]
+        return Part(word, ("from", thing[1], parts[0].kind), parts, number, outer)
     return Part(word, _kind_by_parts(word, parts), parts, None, needs)
 
 
@@ -44,16 +75,6 @@ def _given_part(number, given):
     if type(number) is not int or not 0 <= number < len(given):
         raise NoTerm("this is not given")
     return Part("given", given[number], [], number, [number])
-
-
-def _function_part(takes, body, given):
-    """The function that takes the kind and gives the body."""
-    if not is_kind(takes):
-        raise NoTerm("a function takes what is not a kind")
-    number = len(given)
-    part = read_term(body, given + [takes])
-    needs = [need for need in part.needs if need != number]
-    return Part("make", ("from", takes, part.kind), [part], number, needs)
 
 
 def _kind_by_parts(word, parts):

@@ -89,3 +89,81 @@ def slow_term(term, given, sizes):
     if word == "both":
         return ("both", kind, other_kind), (worth, other)
     return kind[2], worth[slow_worths(other_kind, sizes).index(other)]
+
+
+def slow_plain(term, kinds):
+    """The plain term to which the term leads, by putting terms into one another."""
+    return _told(term, slow_kind(term, kinds), kinds)
+
+
+def slow_kind(term, kinds):
+    """The kind of what surely is a term with a kind."""
+    word = term[0]
+    if word == "given":
+        return kinds[term[1]]
+    if word == "unit":
+        return term
+    if word == "make":
+        return ("from", term[1], slow_kind(term[2], kinds + [term[1]]))
+    if word == "both":
+        return ("both", slow_kind(term[1], kinds), slow_kind(term[2], kinds))
+    return slow_kind(term[1], kinds)[1 if word == "first" else 2]
+
+
+def _told(term, kind, kinds):
+    """The plain term of a term of the kind."""
+    if kind[0] == "unit":
+        return ("unit",)
+    if kind[0] == "both":
+        return ("both", _told(("first", term), kind[1], kinds), _told(("second", term), kind[2], kinds))
+    if kind[0] == "from":
+        # The thing that is given now is put in front of what functions in the term are given.
+        handed = ("do", lifted(term, len(kinds), 1), ("given", len(kinds)))
+        return ("make", kind[1], _told(handed, kind[2], kinds + [kind[1]]))
+    return _told_within(_head(term, len(kinds)), kinds)
+
+
+def _told_within(term, kinds):
+    """The plain term of what is done one behind the other to a given."""
+    if term[0] == "given":
+        return term
+    one = _told_within(term[1], kinds)
+    if term[0] != "do":
+        return (term[0], one)
+    return ("do", one, _told(term[2], slow_kind(term[1], kinds)[1], kinds))
+
+
+def lifted(term, many, by):
+    """The term of so many things that are given with more of them given behind these."""
+    if term[0] == "given":
+        return term if term[1] < many else ("given", term[1] + by)
+    if term[0] == "make":
+        return ("make", term[1], lifted(term[2], many, by))
+    return term[:1] + tuple(lifted(part, many, by) for part in term[1:])
+
+
+def _head(term, many):
+    """The term without any function handed to at its outside or part taken of both there."""
+    if term[0] == "do":
+        one = _head(term[1], many)
+        if one[0] == "make":
+            return _head(_put_in(one[2], many, term[2], many), many)
+        return ("do", one, term[2])
+    if term[0] in ("first", "second"):
+        one = _head(term[1], many)
+        if one[0] == "both":
+            return _head(one[1 if term[0] == "first" else 2], many)
+        return (term[0], one)
+    return term
+
+
+def _put_in(body, number, term, many):
+    """The body with the term in the place of the given of the number, so many being given here;
+    the term is made of what is given ahead of that number."""
+    if body[0] == "given":
+        if body[1] == number:
+            return lifted(term, number, many - number)
+        return body if body[1] < number else ("given", body[1] - 1)
+    if body[0] == "make":
+        return ("make", body[1], _put_in(body[2], number, term, many + 1))
+    return body[:1] + tuple(_put_in(part, number, term, many) for part in body[1:])

@@ -11,7 +11,7 @@ from kindswap.errors import NoSizes, NoTerm, NoWorth, TooMany
 from kindswap.kinds import read_kind
 from kindswap.terms import done, term_kind
 from kindswap.worths import is_worth, worths
-from samples import (A, B, C, D, G, H, NO_SIZES, STRAYS, TUPLES_NO_KIND, UNIT, Loud, Refusals, Yes, both,
+from samples import (A, B, C, G, H, NO_SIZES, STRAYS, TUPLES_NO_KIND, UNIT, Loud, Refusals, Yes, both,
                      deep_kinds, func, wide_kinds)
 from slow import count, slow_term, slow_worths, strictly_the_same
 from term_samples import (G0, G1, G2, LEAVE, NOTHING, SWAP, deep_terms, do, first, given, make, moved,

@@ -33,6 +33,9 @@ INTERFACE = {
     "counts": ["many", "rest", "apart", "apart_fault"],
     "worths": ["worths", "is_worth"],
     "terms": ["term_kind", "done"],
+    "plains": ["plain", "same"],
+    "turners": ["turner", "turn_fault"],
+    "libraries": ["search", "search_fault"],
 }
 
 
