@@ -1,5 +1,6 @@
 """Numbers of worths: told, their rests, and what tells unlike kinds from one another by them."""
 
+from kindswap.divisors import rest_of_power, without_shared_part
 from kindswap.errors import NoDivisor, TooMany
 from kindswap.forms import alike
 from kindswap.kinds import BASE_LETTERS, need_kind
@@ -7,10 +8,13 @@ from kindswap.sized import GREATEST_SIZE, TOO_GREAT, by_sizes, is_sizes, sized_k
 
 LEAST_DIVISOR = 2
 GREATEST_DIVISOR = 10 ** 9
-# A prime, as are (this - 1) // 2, (that - 1) // 2 and so on, seven in all, each of more than a
-# million. A power's rest hangs on the rest of what it is raised to by (nearly) the next of them:
-# so differences up to seven powers within one another stay to be seen.
-APART_BY = 71850239
+# The first one is a prime, as are half of the second one and of the next ones, seven in all, each
+# of more than a million. A power's rest by one of them hangs on the rest of what it is raised to by
+# the next one, which is (nearly) such a prime: so differences up to seven powers within one another
+# stay to be seen. Of each one the next one is how many numbers below it share no part with it.
+APART_DIVISORS = (
+    71850239, 71850238, 35925118, 17962558, 8981278, 4490638, 2245318, 1122658, 554484, 147840, 30720, 8192, 4096,
+    2048, 1024, 512, 256, 128, 64, 32, 16, 8, 4, 2, 1)
 # By far the most unlike kinds are told apart by the first sizes; only where more factors than
 # promised stand within one another, there might be none at all.
 MOST_SIZES_TRIED = 200
@@ -31,7 +35,7 @@ def rest(kind, sizes, by):
     whole = sized_kind(kind, sizes)
     if not _is_divisor(by):
         raise NoDivisor("this is not a divisor")
-    return _rest(whole, by)
+    return _rest(whole, [by], 0)
 
 
 def _is_divisor(thing):
@@ -39,61 +43,25 @@ def _is_divisor(thing):
     return type(thing) is int and LEAST_DIVISOR <= thing <= GREATEST_DIVISOR
 
 
-def _rest(kind, by):
-    """The rest of the number of a sized kind's worths."""
-    if kind.many < TOO_GREAT:
-        return kind.many % by
-    return _rest_by_row(kind, _divisors(by), 0)
+def _rest(kind, divisors, at):
+    """The rest of the number of a sized kind's worths by one of a row of divisors.
 
-
-def _divisors(by):
-    """The divisor, behind each one how many numbers below it share no part with it, up to 1."""
-    row = [by]
-    while row[-1] > 1:
-        row.append(_without_shared_part(row[-1]))
-    return row
-
-
-def _without_shared_part(number):
-    """How many of the numbers below this one share no part with it."""
-    found = number
-    left = number
-    part = 2
-    while part * part <= left:
-        if left % part == 0:
-            found -= found // part
-            while left % part == 0:
-                left //= part
-        part += 1 if part == 2 else 2
-    if left > 1:
-        found -= found // left
-    return found
-
-
-def _rest_by_row(kind, divisors, at):
-    """The rest of the number of a sized kind's worths by one divisor of the row."""
+    Behind each divisor stands how many numbers below it share no part with it; the row is made
+    longer so far as it is needed.
+    """
     by = divisors[at]
     if kind.many < TOO_GREAT or by == 1:
         return kind.many % by
-    other = _rest_by_row(kind.other, divisors, at)
+    other = _rest(kind.other, divisors, at)
     if kind.word == "both":
-        return _rest_by_row(kind.one, divisors, at) * other % by
+        return _rest(kind.one, divisors, at) * other % by
     times = kind.one.many
     if times == TOO_GREAT:
+        if at + 1 == len(divisors):
+            divisors.append(without_shared_part(by))
         # Euler: the powers come again by the next divisor's steps, at the latest from it on.
-        times = _rest_by_row(kind.one, divisors, at + 1) + divisors[at + 1]
-    return _rest_of_power(other, times, by)
-
-
-def _rest_of_power(number, times, by):
-    """The rest of the number to the power of the other one, by squaring."""
-    found = 1 % by
-    while times > 0:
-        if times & 1:
-            found = found * number % by
-        number = number * number % by
-        times >>= 1
-    return found
+        times = _rest(kind.one, divisors, at + 1) + divisors[at + 1]
+    return rest_of_power(other, times, by)
 
 
 def apart(one, other):
@@ -111,15 +79,15 @@ def apart(one, other):
             # A row of numbers without any plain pattern, the same each time.
             state = state * 16807 % 2147483647
             sizes.append(LEAST_TRIED + state % (GREATEST_SIZE - LEAST_TRIED + 1))
-        one_rest, other_rest = _both_rests(one, other, sizes, APART_BY)
+        one_rest, other_rest = _both_rests(one, other, sizes, list(APART_DIVISORS))
         if one_rest != other_rest:
             break
-    return (sizes, APART_BY)
+    return (sizes, APART_DIVISORS[0])
 
 
-def _both_rests(one, other, sizes, by):
-    """The rests of the numbers of worths of what surely are kinds."""
-    return _rest(by_sizes(one, sizes), by), _rest(by_sizes(other, sizes), by)
+def _both_rests(one, other, sizes, divisors):
+    """The rests of the numbers of worths of what surely are kinds, by the first of the divisors."""
+    return _rest(by_sizes(one, sizes), divisors, 0), _rest(by_sizes(other, sizes), divisors, 0)
 
 
 def apart_fault(one, other, thing):
@@ -131,7 +99,7 @@ def apart_fault(one, other, thing):
     sizes, by = thing
     if not is_sizes(sizes) or not _is_divisor(by):
         return ("form",)
-    one_rest, other_rest = _both_rests(one, other, sizes, by)
+    one_rest, other_rest = _both_rests(one, other, sizes, [by])
     if one_rest != other_rest:
         return None
     return ("rest", one_rest)

@@ -62,12 +62,19 @@ def _part(thing, given, parts):
     word = thing[0]
     if word == "given":
         return _given_part(thing[1], given)
-    needs = sorted({number for part in parts for number in part.needs})
+    needs = _needs_of_parts(parts)
     if word == "make":
         number = len(given)
         outer = [need for need in needs if need != number]
         return Part(word, ("from", thing[1], parts[0].kind), parts, number, outer)
     return Part(word, _kind_by_parts(word, parts), parts, None, needs)
+
+
+def _needs_of_parts(parts):
+    """The numbers of what must be given for the parts, in order, each once."""
+    if len(parts) == 1:
+        return parts[0].needs
+    return sorted({number for part in parts for number in part.needs})
 
 
 def _given_part(number, given):

@@ -83,12 +83,17 @@ def matched(sources, leaves):
     The first of several same factors is matched with the first one, and so on: so the same ones
     are matched with one another, if sources and leaves are exchanged.
     """
-    order = sorted([(leaf.factor, at) for at, leaf in enumerate(leaves)])
-    source_order = sorted([(leaf.factor, at) for at, (_, leaf) in enumerate(sources)])
     found = [None] * len(leaves)
-    for (_, at), (_, source_at) in zip(order, source_order, strict=True):
-        found[at] = sources[source_at]
+    source_places = _places([leaf for number, leaf in sources])
+    for place, source_place in zip(_places(leaves), source_places, strict=True):
+        found[place] = sources[source_place]
     return found
+
+
+def _places(leaves):
+    """The places of the leaves in the order of their factors, of the same ones as they stand."""
+    rows = sorted([(leaf.factor, place) for place, leaf in enumerate(leaves)])
+    return [place for factor, place in rows]
 
 
 class Turning(Telling):

@@ -176,6 +176,53 @@ class TestRest(Refusals):
         self.assertEqual(rest(kind, [2] + sizes[1:], 2), 0)
         self.assertEqual(rest(kind, sizes, 2), 1)
 
+    # Primes, and products of two of them greater than a thousand, among these squares.
+    PRIMES = [1009, 1013, 4999, 15013, 31601, 31607, 99991, 611953, 990019, 990037, 999983, 333667, 35925119,
+              71850239, 499999993, 999999929, 999999937]
+    PAIRS = [1009 * 1009, 1009 * 1013, 1009 * 990037, 1013 * 611953, 1013 * 1013, 4999 * 99991, 4999 * 4999,
+             15013 * 31607, 15013 * 15013, 31601 * 31607, 31607 * 31607, 31601 * 31601, 1009 * 990019, 4999 * 15013]
+
+    def test_great_divisors_against_all_figures(self):
+        # What the number is raised to is still told figure by figure here.
+        kind = read_kind("((h>g)>a)")
+        chance = random.Random(7)
+        divisors = self.PRIMES + self.PAIRS + [2 * by for by in self.PRIMES[:-3]]
+        divisors += list(range(10 ** 9 - 40, 10 ** 9 + 1))
+        divisors += [2 * 3 ** 18, 3 * 5 * 1009 * 31607, 2 ** 9 * 3 * 611953, 30030 * 33287, 2 ** 29, 3 ** 18, 997 ** 3,
+                     991 * 997 * 1009, 7 ** 10, 31 ** 6]
+        divisors += [chance.randrange(10 ** 6, 10 ** 9) for _ in range(300)]
+        for by in divisors:
+            for sizes in ([2] + ONES[1:6] + [3, 999], [998] + ONES[1:6] + [6, 991], [31] + ONES[1:6] + [990, 998]):
+                with self.subTest(by=by, sizes=sizes):
+                    self.assertEqual(rest(kind, sizes, by), pow(sizes[0], sizes[6] ** sizes[7], by))
+
+    def test_powers_by_a_product_of_two_primes(self):
+        # By each of the two the rest is known from the prime alone.
+        kind = read_kind("((((h>g)>f)>a)*((h>g)>a))")
+        for one, other in itertools.combinations([1009, 1013, 4999, 15013, 31601, 31607], 2):
+            sizes = [7] + ONES[1:5] + [11, 13, 997]
+            told = rest(kind, sizes, one * other)
+            self.assertEqual(told % one, rest(kind, sizes, one))
+            self.assertEqual(told % other, rest(kind, sizes, other))
+
+    def test_the_same_is_told_of_one_divisor_after_another(self):
+        kind = read_kind("((((h>g)>f)>a)>b)")
+        divisors = self.PRIMES + self.PAIRS + [2, 3, 1024, 10 ** 9]
+        told = [rest(kind, SIZES, by) for by in divisors]
+        self.assertEqual([rest(kind, SIZES, by) for by in divisors], told)
+        self.assertEqual([rest(kind, SIZES, by) for by in reversed(divisors)], told[::-1])
+
+    def test_many_calls_in_a_short_time(self):
+        kind, other = read_kind("(((a>b)>c)>d)"), read_kind("(((b>a)>c)>d)")
+        for call in (lambda: rest(kind, [9] * 8, 71850239), lambda: rest(kind, [9] * 8, 999999937),
+                     lambda: rest(kind, [9] * 8, 999999929), lambda: rest(kind, [999] * 8, 499999993),
+                     lambda: apart(kind, other), lambda: apart_fault(kind, other, ([2] + [9] * 7, 999999937))):
+            began = time.process_time()
+            for _ in range(3000):
+                call()
+            # A tenth of this is enough, as no divisor is tried by all numbers up to its root.
+            self.assertLess(time.process_time() - began, 2)
+
     def test_towers_in_a_short_time(self):
         began = time.process_time()
         tower = H

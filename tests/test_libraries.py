@@ -390,10 +390,10 @@ class TestBounds(Searches):
                 self.assertEqual([row[:2] for row in found], [
                     ("alike", []), ("more", [((), 2)]), ("more and alike", [((), 2), ((), 3)])])
             for name, wants, there, back in found:
+                self.assertEqual(search_fault(library, kind, name, (wants, None, back)), ("kind", 0))
                 if parts_of(there) <= 2000:
                     self.assertIsNone(search_fault(library, kind, name, (wants, there, back)))
-                self.assertEqual(search_fault(library, kind, name, (wants, None, back)), ("kind", 0))
-                self.assertEqual(search_fault(library, kind, "other", (wants, there, back)), ("kind", 0))
+                    self.assertEqual(search_fault(library, kind, "other", (wants, there, back)), ("kind", 0))
         self.assertLess(time.process_time() - began, 120)
 
     def test_thirty_things_of_thirty_bases(self):
